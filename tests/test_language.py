@@ -1,0 +1,244 @@
+"""The rules of the language that can be seen in one look at the files of the package."""
+
+import ast
+import builtins
+import io
+import pathlib
+import re
+import tokenize
+import unittest
+
+PACKAGE = pathlib.Path(__file__).resolve().parent.parent / "thinwall"
+
+BUILTINS = """len range enumerate zip min max sum abs sorted reversed int str bool list tuple dict set
+isinstance ord repr any all divmod map iter next super property staticmethod classmethod
+Exception ValueError TypeError KeyError IndexError LookupError ZeroDivisionError ArithmeticError
+OverflowError RuntimeError NotImplementedError AttributeError StopIteration NotImplemented""".split()
+
+METHODS = """append clear copy count endswith extend find get index insert isalnum isalpha isdigit
+islower isspace isupper items join keys ljust lower lstrip partition pop remove replace reverse rfind
+rjust rpartition rsplit rstrip setdefault split splitlines startswith strip update upper values zfill
+bit_length title capitalize swapcase casefold removeprefix removesuffix rindex isascii isdecimal
+isnumeric istitle isidentifier isprintable __init__""".split()
+
+BARRED = """register mro elements open input law version_info with_traceback add_note attrgetter
+breakpoint compile copyright credits delattr dir eval exec exit gc getattr globals hasattr help id
+importlib license locals methodcaller os quit setattr type vars sys""".split()
+
+WORDS = """type typing typing_extensions enum Enum IntEnum StrEnum Flag IntFlag Generic Protocol ABC
+ABCMeta namedtuple NamedTuple TypedDict TYPE_CHECKING abstractmethod dataclass overload
+contextmanager""".split()
+
+DUNDERS = """__init__ __eq__ __ne__ __repr__ __str__ __len__ __call__ __iter__ __and__ __or__
+__invert__ __contains__""".split()
+
+STATEMENTS = (ast.Assign, ast.AugAssign, ast.If, ast.While, ast.For, ast.Return, ast.Break, ast.Continue,
+              ast.Pass, ast.Raise, ast.Assert, ast.Delete, ast.Nonlocal, ast.Match, ast.With, ast.Try, ast.Expr,
+              ast.FunctionDef, ast.ClassDef, ast.ImportFrom)
+
+NOT_ALLOWED = (ast.GeneratorExp, ast.SetComp, ast.Set, ast.Div, ast.MatMult, ast.Await, ast.Global,
+               ast.AsyncFunctionDef, ast.AsyncFor, ast.AsyncWith, ast.Import, ast.NamedExpr)
+
+DECORATORS = ("property", "staticmethod", "classmethod")
+
+
+def files():
+    return sorted(PACKAGE.rglob("*.py"))
+
+
+def trees():
+    return [(path, ast.parse(path.read_text(encoding="utf-8"))) for path in files()]
+
+
+def nodes(*kinds):
+    return [(path, node) for path, tree in trees() for node in ast.walk(tree) if isinstance(node, kinds)]
+
+
+def arguments(function):
+    given = function.args
+    found = given.posonlyargs + given.args + given.kwonlyargs + [given.vararg, given.kwarg]
+    return [one.arg for one in found if one is not None]
+
+
+def sorted_or_counted(tree):
+    """What stands directly in sorted(..) or len(..), where a set may stand."""
+    calls = [node for node in ast.walk(tree) if isinstance(node, ast.Call) and isinstance(node.func, ast.Name)]
+    return [id(call.args[0]) for call in calls if call.func.id in ("sorted", "len") and call.args]
+
+
+def is_docstring(node):
+    return isinstance(node, ast.Expr) and isinstance(node.value, ast.Constant) and isinstance(node.value.value, str)
+
+
+class TheFiles(unittest.TestCase):
+    def test_the_folder_holds_plain_python_files_only(self):
+        for path in PACKAGE.rglob("*"):
+            if "__pycache__" in path.parts:
+                continue
+            self.assertTrue(path.is_dir() or re.fullmatch(r"[a-z][a-z0-9_]*\.py|__init__\.py", path.name), path)
+        self.assertTrue((PACKAGE / "__init__.py").is_file())
+
+    def test_characters_and_sizes(self):
+        for path in files():
+            lines = path.read_text(encoding="utf-8").split("\n")
+            self.assertLessEqual(len(lines), 400, path)
+            for number, line in enumerate(lines, 1):
+                self.assertTrue(all(" " <= character <= "~" for character in line), (path, number))
+                self.assertLessEqual(len(line), 120, (path, number))
+                self.assertNotIn("_wall", line, (path, number))
+        for path, function in nodes(ast.FunctionDef):
+            self.assertLessEqual(function.end_lineno - function.lineno + 1, 40, (path, function.name))
+
+    def test_words_that_stand_nowhere(self):
+        docstrings = {id(tree.body[0].value) for _, tree in trees() if is_docstring(tree.body[0])}
+        for path, node in nodes(ast.FunctionDef, ast.ClassDef):
+            if is_docstring(node.body[0]):
+                docstrings.add(id(node.body[0].value))
+        for path in files():
+            for token in tokenize.generate_tokens(io.StringIO(path.read_text(encoding="utf-8")).readline):
+                if token.type == tokenize.NAME:
+                    self.assertNotIn(token.string, WORDS, (path, token.start))
+        for path, node in nodes(ast.Constant):
+            if isinstance(node.value, str):
+                self.assertNotIn("%", node.value, (path, node.lineno))
+                self.assertFalse(set(re.findall(r"\w+", node.value)) & set(WORDS) - {"type"}, (path, node.lineno))
+            self.assertNotIsInstance(node.value, (float, complex, bytes), (path, node.lineno))
+
+
+class TheStatements(unittest.TestCase):
+    def test_imports_name_the_file_that_defines_the_name(self):
+        edges = {}
+        for path, tree in trees():
+            edges[path.stem] = []
+            for node in tree.body:
+                if not isinstance(node, ast.ImportFrom):
+                    continue
+                self.assertEqual(node.level, 0, path)
+                package, module = node.module.split(".")
+                self.assertEqual(package, "thinwall", path)
+                edges[path.stem].append(module)
+                defined = ast.parse((PACKAGE / f"{module}.py").read_text(encoding="utf-8")).body
+                names = [one.name for one in defined if isinstance(one, (ast.FunctionDef, ast.ClassDef))]
+                names += [target.id for one in defined if isinstance(one, ast.Assign) for target in one.targets]
+                for alias in node.names:
+                    self.assertIn(alias.name, names, (path, node.lineno))
+                    self.assertIsNone(alias.asname, (path, node.lineno))
+        while edges:
+            free = [name for name, needed in edges.items() if not set(needed) & set(edges)]
+            self.assertTrue(free, "some files import from each other")
+            for name in free:
+                del edges[name]
+
+    def test_imports_are_used(self):
+        for path, tree in trees():
+            used = [node.id for node in ast.walk(tree) if isinstance(node, ast.Name)]
+            for node in tree.body:
+                if isinstance(node, ast.ImportFrom):
+                    for alias in node.names:
+                        self.assertIn(alias.name, used, path)
+
+    def test_module_level(self):
+        for path, tree in trees():
+            self.assertTrue(is_docstring(tree.body[0]), path)
+            for node in tree.body[1:]:
+                self.assertIsInstance(node, (ast.ImportFrom, ast.FunctionDef, ast.ClassDef, ast.Assign), path)
+                if isinstance(node, ast.Assign):
+                    self.assertIsInstance(node.value, (ast.Constant, ast.Tuple), (path, node.lineno))
+            names = [node.name for node in tree.body if isinstance(node, (ast.FunctionDef, ast.ClassDef))]
+            self.assertEqual(len(names), len(set(names)), path)
+
+    def test_only_the_allowed_statements_and_expressions(self):
+        for path, node in nodes(ast.stmt):
+            self.assertIsInstance(node, STATEMENTS, (path, node.lineno))
+        for path, tree in trees():
+            inside = sorted_or_counted(tree)
+            for node in ast.walk(tree):
+                if isinstance(node, ast.SetComp) and id(node) in inside:
+                    continue
+                self.assertNotIsInstance(node, NOT_ALLOWED, (path, getattr(node, "lineno", 0)))
+                if isinstance(node, ast.Compare) and isinstance(node.ops[0], (ast.Is, ast.IsNot)):
+                    self.assertIsInstance(node.comparators[0], ast.Constant, (path, node.lineno))
+                if isinstance(node, ast.BinOp) and isinstance(node.op, ast.Pow):
+                    self.assertIsInstance(node.right, ast.Constant, (path, node.lineno))
+                if isinstance(node, ast.Raise) and node.exc is not None:
+                    self.assertIsInstance(node.exc, ast.Call, (path, node.lineno))
+
+    def test_sets_are_sorted_or_counted_on_the_spot(self):
+        for path, tree in trees():
+            inside = sorted_or_counted(tree)
+            for node in ast.walk(tree):
+                if isinstance(node, ast.Call) and isinstance(node.func, ast.Name) and node.func.id == "set":
+                    self.assertIn(id(node), inside, (path, node.lineno))
+
+
+class TheNames(unittest.TestCase):
+    def test_names_are_plain_and_mean_one_thing(self):
+        for path, tree in trees():
+            taken = [alias.name for node in tree.body if isinstance(node, ast.ImportFrom) for alias in node.names]
+            taken += [node.name for node in tree.body if isinstance(node, ast.ClassDef)]
+            defined = []
+            for node in ast.walk(tree):
+                if isinstance(node, (ast.FunctionDef, ast.Lambda)):
+                    defined += arguments(node)
+                if isinstance(node, ast.Name) and isinstance(node.ctx, ast.Store):
+                    defined.append(node.id)
+            functions = [node.name for node in tree.body if isinstance(node, (ast.FunctionDef, ast.ClassDef))]
+            for name in defined:
+                self.assertNotIn(name, taken, path)
+            for name in defined + functions:
+                self.assertNotIn(name, dir(builtins), path)
+                self.assertNotIn(name, BARRED, path)
+                self.assertRegex(name, r"^_?[A-Za-z][A-Za-z0-9_]*$|^_$", path)
+
+    def test_only_the_allowed_builtins(self):
+        for path, node in nodes(ast.Name):
+            if isinstance(node.ctx, ast.Load) and node.id in dir(builtins):
+                self.assertIn(node.id, BUILTINS, (path, node.lineno))
+
+    def test_only_the_allowed_methods(self):
+        own = [node.name for _, node in nodes(ast.FunctionDef)]
+        for path, node in nodes(ast.Call):
+            if isinstance(node.func, ast.Attribute):
+                self.assertIn(node.func.attr, METHODS + own, (path, node.lineno))
+        for path, node in nodes(ast.Attribute):
+            self.assertNotIn(node.attr, BARRED, (path, node.lineno))
+
+
+class TheClasses(unittest.TestCase):
+    def test_decorators_and_double_underscore_methods(self):
+        for path, function in nodes(ast.FunctionDef):
+            for decorator in function.decorator_list:
+                self.assertIn(getattr(decorator, "id", None), DECORATORS, (path, function.name))
+            if function.name.startswith("__"):
+                self.assertIn(function.name, DUNDERS, path)
+        for path, node in nodes(ast.ClassDef):
+            self.assertFalse(node.decorator_list, (path, node.name))
+            self.assertRegex(node.name, r"^[A-Z]", path)
+
+    def test_what_len_str_and_repr_return(self):
+        for path, function in nodes(ast.FunctionDef):
+            if function.name not in ("__len__", "__str__", "__repr__"):
+                continue
+            self.assertEqual(len(function.body), 1, (path, function.name))
+            value = function.body[0].value
+            if isinstance(value, ast.JoinedStr):
+                continue
+            self.assertIsInstance(value, ast.Call, (path, function.name))
+            if function.name == "__len__":
+                self.assertEqual(value.func.id, "len", path)
+            elif isinstance(value.func, ast.Attribute):
+                self.assertEqual(value.func.attr, "join", path)
+            else:
+                self.assertIn(value.func.id, ("str", "repr"), path)
+
+    def test_a_name_is_a_method_or_an_attribute(self):
+        for path, node in nodes(ast.ClassDef):
+            own = [one.name for one in node.body if isinstance(one, ast.FunctionDef)]
+            stored = [one.attr for one in ast.walk(node) if isinstance(one, ast.Attribute)
+                      and isinstance(one.ctx, ast.Store)]
+            self.assertFalse(set(own) & set(stored), (path, node.name))
+            self.assertEqual(len(own), len(set(own)), (path, node.name))
+
+
+if __name__ == "__main__":
+    unittest.main()

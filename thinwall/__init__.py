@@ -1,0 +1,1 @@
+"""Tellings through thin walls, in rows of any length."""
