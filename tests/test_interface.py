@@ -9,6 +9,12 @@ FUNCTIONS = {
     "chains": {"find_chain": "(splits, first, last)", "chain_holds": "(splits, first, last, chain)",
                "find_island": "(splits, first, last)", "island_holds": "(splits, first, last, island)"},
     "sayings": {"nested": "(group, saying, count)"},
+    "reading": {"read_saying": "(text)", "to_saying": "(saying)"},
+    "houses": {"beside": "(one, other)"},
+    "truths": {"cases_of": "(table, saying)", "holds": "(table, case, *sayings)",
+               "doubt": "(table, case, group, saying)", "level": "(table, case, group, saying)",
+               "sure_facts": "(table, group, case)"},
+    "ledgers": {"find_ledger": "(table, case, saying)", "ledger_holds": "(table, case, saying, truth, ledger)"},
 }
 
 CLASSES = {
@@ -28,6 +34,15 @@ CLASSES = {
         "Not": {"__init__": "(self, inner)"}, "And": {"__init__": "(self, first, second)"},
         "Or": {"__init__": "(self, first, second)"}, "Knows": {"__init__": "(self, group, inner)"},
         "Whether": {"__init__": "(self, group, inner)"}, "Common": {"__init__": "(self, group, inner)"}},
+    "houses": {"House": {
+        "__init__": "(self, facts, rows, **eyes)", "seen": "(cls, facts, rows, **sees)",
+        "matching": "(cls, facts, saying, **sees)", "facts": "(self)", "rows": "(self)", "eyes": "(self, letter)",
+        "fact_holds": "(self, case, name)", "kept": "(self, cases)", "__len__": "(self)", "__eq__": "(self, other)",
+        "__ne__": "(self, other)"}},
+    "tables": {"Table": {
+        "__init__": "(self, house, **splits)", "keyed": "(cls, house, key)", "view": "(self, letter)",
+        "pooled": "(self, group)", "shared": "(self, group)", "finer": "(self, other)", "parted": "(self, **words)",
+        "key": "(self)", "room": "(self)", "__eq__": "(self, other)", "__ne__": "(self, other)", "__str__": "(self)"}},
 }
 
 
