@@ -41,6 +41,13 @@ NOT_ALLOWED = (ast.GeneratorExp, ast.SetComp, ast.Set, ast.Div, ast.MatMult, ast
 
 DECORATORS = ("property", "staticmethod", "classmethod")
 
+# Double-underscore methods that may change something, or call what they are passed.
+MAY_CHANGE = ("__init__", "__call__", "__iter__", "__setitem__")
+
+CALLED_FREELY = [name for name in BUILTINS if name not in ("map", "iter", "next")]
+
+CHANGING = """append clear extend insert pop remove reverse setdefault update sort add discard""".split()
+
 
 def files():
     return sorted(PACKAGE.rglob("*.py"))
@@ -238,6 +245,119 @@ class TheClasses(unittest.TestCase):
                       and isinstance(one.ctx, ast.Store)]
             self.assertFalse(set(own) & set(stored), (path, node.name))
             self.assertEqual(len(own), len(set(own)), (path, node.name))
+
+
+class Reach:
+    """All that operators and properties run, found by the names that are called.
+
+    It errs on the side of too much: a call of a method reaches all methods of that name.
+    """
+
+    def __init__(self, parsed):
+        self.functions = {}
+        self.stored = set()
+        classes = [node for tree in parsed for node in ast.walk(tree) if isinstance(node, ast.ClassDef)]
+        self.classes = {node.name: node for node in classes}
+        for tree in parsed:
+            for node in ast.walk(tree):
+                if isinstance(node, ast.FunctionDef):
+                    self.functions.setdefault(node.name, []).append(node)
+                if isinstance(node, ast.Attribute) and isinstance(node.ctx, ast.Store):
+                    self.stored.add(node.attr)
+        self.methods = {one.name for node in classes for one in node.body if isinstance(one, ast.FunctionDef)}
+
+    def roots(self):
+        found = [node for nodes_of_name in self.functions.values() for node in nodes_of_name]
+        return [node for node in found if (node.name.startswith("__") and node.name not in MAY_CHANGE)
+                or any(getattr(one, "id", None) == "property" for one in node.decorator_list)]
+
+    def reached(self):
+        found = self.roots()
+        for function in found:
+            for call in calls_in(function):
+                found += [node for node in self.called(call) if node not in found]
+        return found
+
+    def called(self, call):
+        if isinstance(call.func, ast.Attribute):
+            return self.functions.get(call.func.attr, []) if call.func.attr in self.methods else []
+        if call.func.id in self.classes:
+            return self.constructors(call.func.id)
+        return self.functions.get(call.func.id, [])
+
+    def constructors(self, name):
+        node = self.classes[name]
+        above = [one for base in node.bases if base.id in self.classes for one in self.constructors(base.id)]
+        return above + [one for one in node.body if getattr(one, "name", None) == "__init__"]
+
+    def faults(self):
+        return [(function.name, getattr(node, "lineno", 0), fault)
+                for function in self.reached() for node in ast.walk(function)
+                for fault in self.faults_at(function, node)]
+
+    def faults_at(self, function, node):
+        if isinstance(node, ast.Lambda):
+            return ["a lambda"]
+        if isinstance(node, ast.AugAssign) and not (isinstance(node.target, ast.Name) and whole_number(node.value)):
+            return ["an assignment with a sign"]
+        if isinstance(node, (ast.Attribute, ast.Subscript)) and not isinstance(node.ctx, ast.Load):
+            in_own_object = isinstance(node, ast.Attribute) and getattr(node.value, "id", None) == "self"
+            return [] if function.name == "__init__" and in_own_object else ["a change of a part"]
+        if not isinstance(node, ast.Call):
+            return []
+        if isinstance(node.func, ast.Name):
+            known = node.func.id in self.functions or node.func.id in self.classes or node.func.id in CALLED_FREELY
+            return [] if known else ["a call of what is passed or held"]
+        if not isinstance(node.func, ast.Attribute):
+            return ["a call of what is held"]
+        faults = ["a name that is an attribute, too"] if node.func.attr in self.stored else []
+        if node.func.attr in CHANGING and not is_own_list(function, node.func.value):
+            faults.append("a change of something that was not made here")
+        return faults
+
+
+def calls_in(function):
+    return [node for node in ast.walk(function) if isinstance(node, ast.Call)
+            and isinstance(node.func, (ast.Name, ast.Attribute))]
+
+
+def whole_number(node):
+    return isinstance(node, ast.Constant) and isinstance(node.value, int)
+
+
+def is_own_list(function, node):
+    """Whether the list is a local name that stands for lists made in the function only."""
+    if not isinstance(node, ast.Name) or node.id in arguments(function):
+        return False
+    stores = [one for one in ast.walk(function) if isinstance(one, ast.Name) and isinstance(one.ctx, ast.Store)
+              and one.id == node.id]
+    made = [one for one in ast.walk(function) if isinstance(one, ast.Assign) and makes_list(one.value)
+            and [getattr(target, "id", None) for target in one.targets] == [node.id]]
+    return len(stores) == len(made) > 0
+
+
+def makes_list(node):
+    named = isinstance(node, ast.Call) and getattr(node.func, "id", None) in ("list", "sorted")
+    return named or isinstance(node, (ast.List, ast.ListComp))
+
+
+class TheOperators(unittest.TestCase):
+    def test_operators_and_properties_change_nothing_and_call_nothing_that_they_hold(self):
+        self.assertEqual(Reach([tree for _, tree in trees()]).faults(), [])
+
+    def test_the_rule_is_seen_to_be_broken(self):
+        for row in ("self.parts.append(other)", "rows = self.rows\n        rows.append(1)", "self.at = other",
+                    "other.index(1)", "other[0] = 1", "self.step(other)", "other(1)", "found = []\n        found += [1]",
+                    "other.low(lambda one: one)", "Other()", "swap(other)", "found = [0] * 3\n        found.pop()"):
+            text = ("class Other:\n    def __init__(self):\n        self.index = self.made().pop()\n\n"
+                    "    def made(self):\n        return []\n\n"
+                    "    def step(self, by):\n        self.many += by\n\n\n"
+                    "def swap(items):\n    items[0] = items[1]\n\n\n"
+                    f"class Box:\n    def __add__(self, other):\n        {row}\n        return other\n")
+            self.assertNotEqual(Reach([ast.parse(text)]).faults(), [], row)
+        for row in ("found = []\n        found.append(1)", "at = 0\n        at += 1", "found = sorted(other)\n        found.pop()"):
+            text = f"class Box:\n    def __add__(self, other):\n        {row}\n        return other\n"
+            self.assertEqual(Reach([ast.parse(text)]).faults(), [], row)
 
 
 if __name__ == "__main__":

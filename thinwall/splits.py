@@ -12,7 +12,7 @@ class Split:
     def __init__(self, marks):
         _check_size(len(marks))
         self.size = len(marks)
-        self._marks = _first_places(marks)
+        self._marks = first_places(marks)
 
     @classmethod
     def whole(cls, size):
@@ -67,7 +67,7 @@ class Split:
         """The split that also tells cases with different words apart."""
         if len(words) != self.size:
             raise SizeMismatch(self.size, len(words))
-        return Split(_first_places(list(zip(self._marks, words))))
+        return Split(first_places(list(zip(self._marks, words))))
 
     def merged(self, first, second):
         """The split in which the cells of the two cases are one cell."""
@@ -117,6 +117,13 @@ def shared(*splits, size):
     return result
 
 
+def first_places(items):
+    """For each item the index of the first one that is equal to it."""
+    # The later of two equal keys wins, so the first place has to come last.
+    firsts = {items[place]: place for place in reversed(range(len(items)))}
+    return [firsts[item] for item in items]
+
+
 def splits_of(size):
     """All splits of the size, in ascending order of their marks."""
     _check_size(size)
@@ -134,11 +141,6 @@ def _check_size(size):
 def _check_same_size(one, other):
     if one.size != other.size:
         raise SizeMismatch(one.size, other.size)
-
-
-def _first_places(items):
-    """For each item the index of the first one that is equal to it."""
-    return [items.index(item) for item in items]
 
 
 def _place_of_word(cells, word):
