@@ -73,6 +73,15 @@ def sorted_or_counted(tree):
     return [id(call.args[0]) for call in calls if call.func.id in ("sorted", "len") and call.args]
 
 
+def is_plain(node):
+    """A plain value, or a tuple or a dict of such."""
+    if isinstance(node, ast.Tuple):
+        return all(is_plain(item) for item in node.elts)
+    if isinstance(node, ast.Dict):
+        return all(isinstance(item, ast.Constant) for item in node.keys + node.values)
+    return isinstance(node, ast.Constant)
+
+
 def is_docstring(node):
     return isinstance(node, ast.Expr) and isinstance(node.value, ast.Constant) and isinstance(node.value.value, str)
 
@@ -150,7 +159,7 @@ class TheStatements(unittest.TestCase):
             for node in tree.body[1:]:
                 self.assertIsInstance(node, (ast.ImportFrom, ast.FunctionDef, ast.ClassDef, ast.Assign), path)
                 if isinstance(node, ast.Assign):
-                    self.assertIsInstance(node.value, (ast.Constant, ast.Tuple), (path, node.lineno))
+                    self.assertTrue(is_plain(node.value), (path, node.lineno))
             names = [node.name for node in tree.body if isinstance(node, (ast.FunctionDef, ast.ClassDef))]
             self.assertEqual(len(names), len(set(names)), path)
 
@@ -280,6 +289,8 @@ class Reach:
 
     def called(self, call):
         if isinstance(call.func, ast.Attribute):
+            if call.func.attr == "__init__":
+                return []  # constructors(..) follows the base classes
             return self.functions.get(call.func.attr, []) if call.func.attr in self.methods else []
         if call.func.id in self.classes:
             return self.constructors(call.func.id)

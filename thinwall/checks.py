@@ -1,6 +1,7 @@
 """What several modules ask of the values that they are passed."""
 
-from thinwall.errors import BadGroup, UnknownCase, UnknownFact, UnknownPerson
+from thinwall.errors import (BadGroup, BadLetter, NotPlain, UnknownCase, UnknownDeed, UnknownFact,
+                             UnknownPerson, UnlikeHouses)
 
 LETTERS = "abcdefgh"
 
@@ -14,6 +15,11 @@ def is_name(text):
 def is_letter(text):
     """Whether the string is the letter of a person."""
     return text in list(LETTERS)
+
+
+def is_sign(text):
+    """Whether the string is the sign of a deed."""
+    return len(text) == 1 and "a" <= text <= "z"
 
 
 def is_group(text):
@@ -31,6 +37,13 @@ def check_case(case, size):
         raise UnknownCase(case)
 
 
+def check_letters(letters):
+    """Raises an error for the first string that is not the letter of a person."""
+    for letter in letters:
+        if not is_letter(letter):
+            raise BadLetter(letter)
+
+
 def check_people(letters, people):
     """Raises an error for the first of the letters that is none of the people."""
     for letter in letters:
@@ -46,7 +59,29 @@ def check_facts(names, facts):
             raise UnknownFact(name)
 
 
-def check_saying(house, saying):
-    """Raises the errors of a saying in a house."""
-    check_people(saying.letters(), house.people)
-    check_facts(saying.facts(), house.facts())
+def check_told(house, told):
+    """Raises the errors of a saying or of a deed in a house."""
+    check_people(told.letters(), house.people)
+    check_facts(told.facts(), house.facts())
+
+
+def check_row(row, signs):
+    """Raises an error for the first character of the row that is none of the signs."""
+    for place, sign in enumerate(row):
+        if sign not in signs:
+            raise UnknownDeed(sign, place)
+
+
+def check_plain(sayings):
+    """Raises an error for the first of the sayings that is not plain."""
+    for saying in sayings:
+        if not saying.plain:
+            raise NotPlain(str(saying))
+
+
+def check_like_houses(one, other):
+    """Raises an error if the houses differ in their facts or in their people."""
+    if one.facts() != other.facts():
+        raise UnlikeHouses("facts")
+    if one.people != other.people:
+        raise UnlikeHouses("people")

@@ -1,7 +1,8 @@
 """Houses: facts, cases, and people who cannot tell some cases apart."""
 
-from thinwall.checks import check_case, check_facts, check_people, is_letter, is_name
-from thinwall.errors import BadHouse, NotPlain, TooMany, UnknownCase, UnlikeHouses
+from thinwall.checks import (check_case, check_facts, check_like_houses, check_people, check_plain,
+                             is_letter, is_name)
+from thinwall.errors import BadHouse, TooMany, UnknownCase
 from thinwall.reading import to_saying
 from thinwall.sayings import folded, plain_truths
 from thinwall.splits import Split
@@ -78,10 +79,7 @@ class House:
 
 def beside(one, other):
     """The house with the cases of both, which nobody takes for each other."""
-    if one.facts() != other.facts():
-        raise UnlikeHouses("facts")
-    if one.people != other.people:
-        raise UnlikeHouses("people")
+    check_like_houses(one, other)
     if one.size + other.size > Split.MOST:
         raise TooMany(Split.MOST)
     facts = one.facts()
@@ -132,8 +130,7 @@ def _marks_of_seen(facts, rows, names):
 def _matching_rows(facts, saying):
     """All rows of facts, ascending, in which the plain saying is true."""
     _check_names(facts)
-    if not saying.plain:
-        raise NotPlain(str(saying))
+    check_plain([saying])
     check_facts(saying.facts(), facts)
     rows = _all_rows(len(facts))
     truths = folded(saying, lambda part, below: plain_truths(part, below, facts, rows))[0]

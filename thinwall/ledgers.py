@@ -1,6 +1,6 @@
 """Ledgers: papers that show why a saying is true or false in a case."""
 
-from thinwall.checks import check_case, check_saying
+from thinwall.checks import check_case, check_told
 from thinwall.reading import to_saying
 from thinwall.sayings import And, Fact, Not, Or, Truth, Whether
 from thinwall.truths import part_splits, part_truths
@@ -9,7 +9,7 @@ from thinwall.truths import part_splits, part_truths
 def find_ledger(table, case, saying):
     """The ledger of what is the case."""
     told = to_saying(saying)
-    check_saying(table.house, told)
+    check_told(table.house, told)
     check_case(case, table.house.size)
     parts = told.parts()
     truths = part_truths(table, told)
@@ -26,7 +26,7 @@ def find_ledger(table, case, saying):
 def ledger_holds(table, case, saying, truth, ledger):
     """Whether the lines show that the saying has this truth in the case."""
     told = to_saying(saying)
-    check_saying(table.house, told)
+    check_told(table.house, told)
     check_case(case, table.house.size)
     parts = told.parts()
     lines = {line: True for line in ledger}

@@ -1,6 +1,6 @@
 """What is true in the cases of a table."""
 
-from thinwall.checks import check_case, check_group, check_people, check_saying
+from thinwall.checks import check_case, check_group, check_people, check_told
 from thinwall.reading import to_saying
 from thinwall.sayings import Common, Whether, folded, is_knowing, plain_truths
 
@@ -8,7 +8,7 @@ from thinwall.sayings import Common, Whether, folded, is_knowing, plain_truths
 def cases_of(table, saying):
     """The cases in which the saying is true."""
     told = to_saying(saying)
-    check_saying(table.house, told)
+    check_told(table.house, told)
     return [case for case, truth in enumerate(_truths(table, told)) if truth]
 
 
@@ -17,7 +17,7 @@ def holds(table, case, *sayings):
     told = [to_saying(saying) for saying in sayings]
     check_case(case, table.house.size)
     for saying in told:
-        check_saying(table.house, saying)
+        check_told(table.house, saying)
     return all([_truths(table, saying)[case] for saying in told])
 
 
@@ -108,5 +108,5 @@ def _mates(splits, case):
 def _check_question(table, case, group, saying):
     check_group(group)
     check_people(group, table.house.people)
-    check_saying(table.house, saying)
+    check_told(table.house, saying)
     check_case(case, table.house.size)
