@@ -16,12 +16,12 @@ class Checks(unittest.TestCase):
     def assert_error(self, wanted, call, *args, **keywords):
         """The call raises an error like the one that is wanted, and changes nothing."""
         things = things_of_call(call, args, keywords)
-        kept = copy.deepcopy(things)
+        kept = [parts_of(thing) for thing in copy.deepcopy(things)]
         with self.assertRaises(type(wanted)) as caught:
             call(*args, **keywords)
         self.assertIs(type(caught.exception), type(wanted))
         self.assertEqual(vars(caught.exception), vars(wanted))
-        self.assertEqual(things, kept)
+        self.assertEqual([parts_of(thing) for thing in things], kept)
 
     def assert_errors_in_order(self, call, good, *wrong):
         """Each wrong value alone, and each pair of them at once, raises the error of the earlier one.
@@ -62,6 +62,13 @@ def things_of_call(call, args, keywords):
     return [thing for thing in things if not isinstance(thing, (types.ModuleType, types.GeneratorType))]
 
 
+def parts_of(thing):
+    """The thing itself, or what it is made of if things of its kind are not compared."""
+    if type(thing).__eq__ is object.__eq__ and hasattr(thing, "__dict__"):
+        return vars(thing)
+    return thing
+
+
 def spoil(found):
     for item in found:
         if isinstance(item, list):
@@ -93,6 +100,16 @@ def random_saying(source, size, facts="pqr", letters="abc"):
     first = source.randint(1, size - 2)
     return source.choice([And, Or])(
         random_saying(source, first, facts, letters), random_saying(source, size - 1 - first, facts, letters))
+
+
+def random_plain(source, size, facts="pqr"):
+    """A plain saying with exactly this number of parts."""
+    if size == 1:
+        return Fact(source.choice(facts)) if source.random() < 0.8 else Truth(source.random() < 0.5)
+    if size == 2 or source.random() < 0.4:
+        return Not(random_plain(source, size - 1, facts))
+    first = source.randint(1, size - 2)
+    return source.choice([And, Or])(random_plain(source, first, facts), random_plain(source, size - 1 - first, facts))
 
 
 def source_of(seed):

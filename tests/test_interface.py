@@ -15,7 +15,16 @@ FUNCTIONS = {
                "doubt": "(table, case, group, saying)", "level": "(table, case, group, saying)",
                "sure_facts": "(table, group, case)"},
     "ledgers": {"find_ledger": "(table, case, saying)", "ledger_holds": "(table, case, saying, truth, ledger)"},
+    "alike": {"alike": "(table)", "rounds": "(table)", "alike_pairs": "(first, second)",
+              "alike_holds": "(first, second, pairs)", "tables_alike": "(first, second)"},
+    "leasts": {"least": "(table)", "least_holds": "(table, house, onto)", "same_form": "(first, second)"},
+    "partings": {"find_parting": "(first, a, second, b)", "parting_holds": "(first, a, second, b, paper)",
+                 "parting_saying": "(first, a, second, b, *, most=60)"},
+    "deedtext": {"read_deed": "(text)"},
+    "machines": {"pairing_holds": "(one, other, pairs)", "paired": "(machine, *more)"},
 }
+
+CONSTANTS = {"partings": {"MOST_PARTS": 60}, "lots": {"MOST_TABLES": 300}}
 
 CLASSES = {
     "splits": {"Split": {
@@ -43,7 +52,38 @@ CLASSES = {
         "__init__": "(self, house, **splits)", "keyed": "(cls, house, key)", "view": "(self, letter)",
         "pooled": "(self, group)", "shared": "(self, group)", "finer": "(self, other)", "parted": "(self, **words)",
         "key": "(self)", "room": "(self)", "__eq__": "(self, other)", "__ne__": "(self, other)", "__str__": "(self)"}},
+    "deeds": {
+        "Deed": {"__init__": "(self, **ears)", "letters": "(self)", "facts": "(self)", "ear": "(self, letter)",
+                 "said": "(self, table)", "heard": "(self, table, letter)", "__call__": "(self, table)",
+                 "__eq__": "(self, other)", "__ne__": "(self, other)", "__str__": "(self)"},
+        "Voice": {"__init__": "(self, what, **ears)", "said": "(self, table)"},
+        "Hint": {"__init__": "(self, who, what, **ears)", "said": "(self, table)", "ear": "(self, letter)"},
+        "Tell": {"__init__": "(self, who, what, *, lies='false', **ears)", "said": "(self, table)",
+                 "aloud": "(cls, who, what, people)", "into": "(cls, who, to, what)"},
+        "Letter": {"__init__": "(self, who, to, what, *, lies='false', lost='false', **ears)", "ear": "(self, letter)"}},
+    "acts": {
+        "Look": {"__init__": "(self, who, what, *, dim='false')", "said": "(self, table)", "ear": "(self, letter)"},
+        "Call": {"__init__": "(self, what, **ears)", "said": "(self, table)"},
+        "Turn": {"__init__": "(self, when, first, second)", "said": "(self, table)", "ear": "(self, letter)"}},
+    "plays": {"Play": {
+        "__init__": "(self, house, **deeds)", "deed": "(self, sign)", "after": "(self, row, *, table=None)",
+        "words": "(self, row, letter, case)", "essential": "(self, row)", "only": "(self, signs)",
+        "within": "(self, house)", "least": "(self)", "start": "(self)", "__len__": "(self)",
+        "__contains__": "(self, sign)", "__eq__": "(self, other)", "__ne__": "(self, other)"}},
+    "lots": {"Lot": {
+        "__init__": "(self, play, *, most=300)", "names": "(self)", "walk": "(self)", "after": "(self, row)",
+        "least": "(self, row)", "name_of": "(self, table)", "steps": "(self)", "search": "(self, wish)",
+        "telling": "(self, row)", "last_names": "(self)", "behind": "(self, row, other)", "longest": "(self)",
+        "classes": "(self)", "__len__": "(self)", "__contains__": "(self, table)"}},
+    "machines": {"Machine": {
+        "__init__": "(self, signs, steps, words, *, first=0)", "steps": "(self)", "words": "(self)",
+        "after": "(self, row)", "parting": "(self, other)", "pairing": "(self, other)", "least": "(self)",
+        "rows_with": "(self, words)", "__call__": "(self, row)", "__len__": "(self)", "__eq__": "(self, other)",
+        "__ne__": "(self, other)"}},
 }
+
+PROPERTIES = {("sayings", "Saying"): "plain depth positive", ("tables", "Table"): "key room", ("plays", "Play"): "start"}
+GENERATORS = [("splits", "splits_of"), ("lots", "Lot.walk"), ("machines", "Machine.rows_with")]
 
 
 def written(method):
@@ -68,6 +108,23 @@ class TheInterface(unittest.TestCase):
                 self.assertEqual(getattr(found, name).__module__, f"thinwall.{module}", name)
                 for method, arguments in methods.items():
                     self.assertEqual(written(vars(getattr(found, name))[method]), arguments, (name, method))
+
+    def test_constants(self):
+        for module, constants in CONSTANTS.items():
+            for name, value in constants.items():
+                self.assertEqual(getattr(importlib.import_module(f"thinwall.{module}"), name), value)
+
+    def test_properties(self):
+        for (module, name), names in PROPERTIES.items():
+            found = vars(getattr(importlib.import_module(f"thinwall.{module}"), name))
+            self.assertEqual([one for one, value in found.items() if isinstance(value, property)], names.split())
+
+    def test_generators(self):
+        for module, name in GENERATORS:
+            found = importlib.import_module(f"thinwall.{module}")
+            for part in name.split("."):
+                found = getattr(found, part)
+            self.assertTrue(inspect.isgeneratorfunction(found), name)
 
 
 if __name__ == "__main__":
