@@ -5,7 +5,7 @@ import unittest
 from thinwall.acts import Call, Look, Turn
 from thinwall.alike import alike_pairs
 from thinwall.deeds import Deed, Hint, Letter, Tell, Voice
-from thinwall.errors import BadLetter, BadSaying, NotPlain, UnknownFact, UnknownPerson
+from thinwall.errors import BadHouse, BadLetter, BadSaying, NotPlain, UnknownFact, UnknownPerson
 from thinwall.houses import House
 from thinwall.reading import read_saying
 from thinwall.sayings import And, Fact, Knows, Not, Or, Saying, Truth
@@ -72,6 +72,20 @@ class WhatIsSaid(Checks):
         self.assertEqual(words["letter"], {"yes", "no", "unsure"})
         self.assertEqual(words["voice"] | words["look"], {"yes", "no"})
         self.assertLessEqual({"-", "a", "bc", "abc"}, words["call"])
+
+    def test_all_ears_some_ears_and_none(self):
+        wanted = {"none": "- - - -", "voice: p": "no no yes yes", "hint a: p": "- - yes yes", "tell a: p": "no no yes yes",
+                  "letter a b: p": "no no yes yes", "call: p": "a a a a"}
+        own = {"hint a: p": "a", "tell a: p": "a", "letter a b: p": "ab"}
+        makers = {"none": Deed, "voice: p": lambda **ears: Voice("p", **ears), "hint a: p": lambda **ears: Hint("a", "p", **ears),
+                  "tell a: p": lambda **ears: Tell("a", "p", **ears), "call: p": lambda **ears: Call("p", **ears),
+                  "letter a b: p": lambda **ears: Letter("a", "b", "p", **ears)}
+        for text, make in makers.items():
+            for hearers in ("", "c", "ab", "abc"):
+                deed = make(**{letter: "true" for letter in hearers})
+                for letter in "abc":
+                    words = wanted[text].split() if letter in hearers + own.get(text, "") else ["-"] * 4
+                    self.assertEqual(deed.heard(TABLE, letter), words, (str(deed), letter))
 
     def test_who_tells_also_learns_from_the_own_word(self):
         table = Table(House(["p", "liar"], ["10", "11"], a=[0, 0], b=[0, 0]))
@@ -272,6 +286,18 @@ class WrongDeeds(Checks):
         self.assert_error(BadLetter("a"), Letter, "a", "a", "p")
         self.assert_error(BadLetter("a"), Letter, "a", "a", "p", lost="[b]p", i="p", A="q")
         self.assert_error(BadLetter("i"), Letter, "i", "i", "p")
+
+    def test_the_letters_of_people_are_eight(self):
+        for character in map(chr, range(32, 127)):
+            if character in "abcdefgh":
+                self.assertEqual(Hint(character, "p").letters(), character)
+                self.assertEqual(str(Deed().ear(character)), "false")
+                self.assertEqual(House([], [""], **{character: [0]}).people, character)
+            else:
+                self.assert_error(BadLetter(character), Hint, character, "p")
+                self.assert_error(BadLetter(character), Deed, **{character: "true"})
+                self.assert_error(BadLetter(character), Deed().ear, character)
+                self.assert_error(BadHouse("people"), House, [], [""], **{character: [0]})
 
     def test_keywords_of_other_classes_are_ears(self):
         for make, keywords in ((Deed, ("who", "what", "lies", "lost", "dim", "to", "when", "first")),

@@ -255,6 +255,36 @@ class TheClasses(unittest.TestCase):
             self.assertFalse(set(own) & set(stored), (path, node.name))
             self.assertEqual(len(own), len(set(own)), (path, node.name))
 
+    def test_names_of_methods_are_no_names_of_attributes(self):
+        stored = {node.attr for _, node in nodes(ast.Attribute) if isinstance(node.ctx, ast.Store)}
+        plain, bound, properties, generators, functions = [], [], [], [], []
+        for _, node in nodes(ast.ClassDef):
+            for one in node.body:
+                if isinstance(one, ast.FunctionDef):
+                    names = [getattr(decorator, "id", None) for decorator in one.decorator_list]
+                    (properties if "property" in names else bound if names else plain).append(one.name)
+        for _, node in nodes(ast.FunctionDef):
+            yields = any(isinstance(inner, (ast.Yield, ast.YieldFrom)) for inner in ast.walk(node))
+            (generators if yields else functions).append(node.name)
+        self.assertFalse(stored & set(plain + bound + properties))
+        self.assertFalse(set(bound) & set(plain + properties + METHODS))
+        self.assertFalse(set(properties) & set(plain + METHODS))
+        self.assertFalse(set(generators) & set(functions + METHODS))
+        self.assertEqual(len(generators), len(set(generators)))
+
+    def test_what_stands_behind_and_beside_stars(self):
+        for path, node in nodes(ast.Call):
+            starred = [one.value for one in node.args if isinstance(one, ast.Starred)]
+            starred += [one.value for one in node.keywords if one.arg is None]
+            if not starred:
+                continue
+            if any(one.arg is None for one in node.keywords):
+                self.assertEqual(len(node.keywords), 1, (path, node.lineno))
+                starred += node.args
+            for one in starred:
+                base = one.value if isinstance(one, ast.Attribute) else one
+                self.assertIsInstance(base, (ast.Name, ast.Starred, ast.Constant), (path, node.lineno))
+
 
 class Reach:
     """All that operators and properties run, found by the names that are called.

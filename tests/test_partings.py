@@ -10,7 +10,7 @@ from thinwall.partings import MOST_PARTS, find_parting, parting_holds, parting_s
 from thinwall.sayings import And, Fact, Knows, Not, Or
 from thinwall.tables import Table
 from thinwall.truths import cases_of
-from oracles import PAIR, ROAD, is_parting, parting_by_words, random_table, ranks_by_words, some_tables
+from oracles import PAIR, ROAD, is_parting, parting_by_words, ranks_by_words, some_tables
 from support import HUGE, Checks, source_of
 
 TABLE = Table(House(["p"], ["1", "1", "0"], a=[0, 1, 1], b=[0, 0, 0]))

@@ -71,10 +71,11 @@ class Deed:
         check_letters(list(heard))
         check_plain(list(conditions.values()) + list(heard.values()))
         self._ears = _without_false({letter: heard[letter] for letter in heard if letter not in people})
-        head = " ".join([self.KIND] + people) + "".join([f": {saying}" for saying in what])
-        behind = {**_without_false(conditions), **self._ears}
         told = what + list(conditions.values()) + list(self._ears.values())
-        text = head + "".join([f" / {title}: {saying}" for title, saying in behind.items()])
+        parts = [f": {saying}" for saying in what]
+        for sayings in (_without_false(conditions), self._ears):
+            parts.extend([f" / {title}: {saying}" for title, saying in sayings.items()])
+        text = " ".join([self.KIND] + people) + "".join(parts)
         self._keep(people + list(self._ears), told, text)
 
     def _keep(self, people, told, text):

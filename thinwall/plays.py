@@ -40,7 +40,8 @@ class Play:
             raise UnlikeHouses("house")
         reached = self._start if table is None else table
         for sign in row:
-            reached = self._deeds[sign](reached)
+            deed = self._deeds[sign]
+            reached = deed(reached)
         return reached
 
     def words(self, row, letter, case):
@@ -51,8 +52,9 @@ class Play:
         found = []
         table = self._start
         for sign in row:
-            found.append(self._deeds[sign].heard(table, letter)[case])
-            table = self._deeds[sign](table)
+            deed = self._deeds[sign]
+            found.append(deed.heard(table, letter)[case])
+            table = deed(table)
         return found
 
     def essential(self, row):
@@ -61,7 +63,8 @@ class Play:
         kept = ""
         table = self._start
         for sign in row:
-            behind = self._deeds[sign](table)
+            deed = self._deeds[sign]
+            behind = deed(table)
             if behind != table:
                 kept += sign
             table = behind
