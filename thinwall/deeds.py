@@ -47,9 +47,9 @@ class Deed:
         return _heard(table, words, self.ear(letter))
 
     def __call__(self, table):
-        words = self.said(table)
-        heard = {letter: _heard(table, words, self.ear(letter)) for letter in table.house.people}
-        return table.parted(**heard)
+        said = self.said(table)
+        words = {letter: _heard(table, said, self.ear(letter)) for letter in table.house.people}
+        return table.parted(**words)
 
     def __eq__(self, other):
         return isinstance(other, Deed) and self._text == other._text
@@ -66,11 +66,11 @@ class Deed:
         The people are who does it, and to whom. The list what has the saying that it is
         about, if there is one. The conditions are plain sayings under their titles.
         """
-        heard = {letter: to_saying(ears[letter]) for letter in sorted(ears)}
+        given = {letter: to_saying(ears[letter]) for letter in sorted(ears)}
         _check_doers(people)
-        check_letters(list(heard))
-        check_plain(list(conditions.values()) + list(heard.values()))
-        self._ears = _without_false({letter: heard[letter] for letter in heard if letter not in people})
+        check_letters(list(given))
+        check_plain(list(conditions.values()) + list(given.values()))
+        self._ears = _without_false({letter: ear for letter, ear in given.items() if letter not in people})
         told = what + list(conditions.values()) + list(self._ears.values())
         parts = [f": {saying}" for saying in what]
         for sayings in (_without_false(conditions), self._ears):
