@@ -63,9 +63,13 @@ def things_of_call(call, args, keywords):
 
 
 def parts_of(thing):
-    """The thing itself, or what it is made of if things of its kind are not compared."""
+    """The thing itself, or what it is made of if things of its kind are not compared; the same for its parts."""
+    if isinstance(thing, (list, tuple)):
+        return [parts_of(part) for part in thing]
+    if isinstance(thing, dict):
+        return {key: parts_of(value) for key, value in thing.items()}
     if type(thing).__eq__ is object.__eq__ and hasattr(thing, "__dict__"):
-        return vars(thing)
+        return {name: parts_of(value) for name, value in vars(thing).items()}
     return thing
 
 

@@ -22,9 +22,31 @@ FUNCTIONS = {
                  "parting_saying": "(first, a, second, b, *, most=60)"},
     "deedtext": {"read_deed": "(text)"},
     "machines": {"pairing_holds": "(one, other, pairs)", "paired": "(machine, *more)"},
+    "wishes": {"shortest": "(lot, wish, *, never='false', cases=None)",
+               "row_holds": "(play, row, wish, *, never='false', cases=None)",
+               "closed_tables": "(lot, wish, *, never='false', cases=None)",
+               "closed_holds": "(play, keys, wish, *, never='false', cases=None)",
+               "fewest_deeds": "(lot, wish, *, never='false', cases=None)", "once": "(lot, saying)",
+               "always": "(lot, saying)", "at_last": "(lot, saying)", "firm_break": "(lot, saying)"},
+    "safety": {"safe_cases": "(lot, name, letter)", "secrets": "(lot)", "leak": "(lot, name, letter)",
+               "twins": "(lot, name, letter, case)", "safe_paper": "(lot, name, letter, case)",
+               "safe_holds": "(play, name, letter, case, paper)", "fewest_struck": "(lot, name, letter, *, cases=None)",
+               "best_level": "(lot, case, group, saying)"},
+    "orders": {"order_clash": "(lot, first, second)", "free_pairs": "(lot)", "echoes": "(lot, sign)",
+               "covers": "(lot, first, second)", "idle": "(lot)", "endings": "(lot, row)"},
+    "ears": {"ear_machine": "(lot, group, case)", "never_apart": "(lot, group)",
+             "find_apart": "(first_lot, a, second_lot, b, group)", "ears_alike": "(first_lot, second_lot, group)",
+             "first_word": "(lot, group, case)", "finest": "(lot)"},
+    "notes": {"stands_hold": "(lot, saying, paper, **notes)"},
+    "closing": {"joint": "(street)", "sure": "(street, name, saying)", "settled": "(street)", "strikes": "(street)",
+                "rest": "(street)", "strikes_hold": "(street, paper)", "refute": "(street)", "tree_holds": "(street, tree)"},
+    "bench": {"attempt": "(bench, errands)", "trial": "(bench, action)"},
+    "forms": {"format_play": "(play)", "parse_play": "(text)", "table_lines": "(table)", "lot_lines": "(lot)"},
+    "plain": {"rows_of": "(signs, length)", "slow_names": "(play, length)", "slow_fits": "(play, length, **notes)",
+              "all_houses": "(facts, size, people)"},
 }
 
-CONSTANTS = {"partings": {"MOST_PARTS": 60}, "lots": {"MOST_TABLES": 300}}
+CONSTANTS = {"partings": {"MOST_PARTS": 60}, "lots": {"MOST_TABLES": 300}, "bench": {"BENCH_LIMIT": 40}}
 
 CLASSES = {
     "splits": {"Split": {
@@ -80,10 +102,26 @@ CLASSES = {
         "after": "(self, row)", "parting": "(self, other)", "pairing": "(self, other)", "least": "(self)",
         "rows_with": "(self, words)", "__call__": "(self, row)", "__len__": "(self)", "__eq__": "(self, other)",
         "__ne__": "(self, other)"}},
+    "notes": {"Find": {
+        "__init__": "(self, lot, **notes)", "cases": "(self)", "first_fit": "(self)", "ends": "(self)",
+        "against": "(self, saying)", "fitting_rows": "(self, case, length)", "stands": "(self)"}},
+    "streets": {"Street": {
+        "__init__": "(self)", "add_site": "(self, name, play, *, row='')", "tell": "(self, name, sign)",
+        "note": "(self, name, letter, words)", "forget": "(self, name)",
+        "link": "(self, first, saying, second, other)", "unlink": "(self, number)", "names": "(self)", "links": "(self)",
+        "told": "(self, name)", "table_at": "(self, name)", "open_cases": "(self, name)", "__len__": "(self)",
+        "__contains__": "(self, name)"}},
+    "bench": {"Bench": {
+        "__init__": "(self, play, *, never='false', cases=None, limit=40)", "do": "(self, sign)", "do_all": "(self, row)",
+        "cut": "(self, count)", "undo": "(self)", "redo": "(self)", "change_limit": "(self, limit)", "fork": "(self)",
+        "advice": "(self, wish)", "row": "(self)", "table": "(self)", "past": "(self)", "future": "(self)",
+        "limit": "(self)", "__len__": "(self)"}},
 }
 
-PROPERTIES = {("sayings", "Saying"): "plain depth positive", ("tables", "Table"): "key room", ("plays", "Play"): "start"}
-GENERATORS = [("splits", "splits_of"), ("lots", "Lot.walk"), ("machines", "Machine.rows_with")]
+PROPERTIES = {("sayings", "Saying"): "plain depth positive", ("tables", "Table"): "key room", ("plays", "Play"): "start",
+              ("bench", "Bench"): "row table past future limit"}
+GENERATORS = [("splits", "splits_of"), ("lots", "Lot.walk"), ("machines", "Machine.rows_with"),
+              ("notes", "Find.fitting_rows"), ("plain", "rows_of"), ("plain", "all_houses")]
 
 
 def written(method):
@@ -118,6 +156,8 @@ class TheInterface(unittest.TestCase):
         for (module, name), names in PROPERTIES.items():
             found = vars(getattr(importlib.import_module(f"thinwall.{module}"), name))
             self.assertEqual([one for one, value in found.items() if isinstance(value, property)], names.split())
+            for one in names.split():
+                self.assertEqual(found[one].fset is not None, one == "limit", one)
 
     def test_generators(self):
         for module, name in GENERATORS:

@@ -70,7 +70,16 @@ def arguments(function):
 def sorted_or_counted(tree):
     """What stands directly in sorted(..) or len(..), where a set may stand."""
     calls = [node for node in ast.walk(tree) if isinstance(node, ast.Call) and isinstance(node.func, ast.Name)]
-    return [id(call.args[0]) for call in calls if call.func.id in ("sorted", "len") and call.args]
+    return [id(call.args[0]) for call in calls if call.func.id in ("sorted", "len") and call.args and not call.keywords]
+
+
+def is_setter(function):
+    return any(isinstance(one, ast.Attribute) and one.attr == "setter" for one in function.decorator_list)
+
+
+def generators():
+    return {node.name for _, node in nodes(ast.FunctionDef)
+            if any(isinstance(inner, (ast.Yield, ast.YieldFrom)) for inner in ast.walk(node))}
 
 
 def is_plain(node):
@@ -187,6 +196,37 @@ class TheStatements(unittest.TestCase):
                     self.assertIn(id(node), inside, (path, node.lineno))
 
 
+    def test_what_stands_in_a_finally(self):
+        for path, node in nodes(ast.Try):
+            for one in node.finalbody:
+                self.assertIsInstance(one, ast.Assign, (path, one.lineno))
+                for part in [one.value] + one.targets:
+                    self.assertIsInstance(part, (ast.Name, ast.Attribute, ast.Tuple), (path, one.lineno))
+
+    def test_only_own_errors_are_caught(self):
+        own = {node.name for path, node in nodes(ast.ClassDef) if path.stem == "errors"}
+        for path, node in nodes(ast.ExceptHandler):
+            self.assertIn(node.type.id, own, (path, node.lineno))
+
+    def test_generators_are_iterated_at_once(self):
+        names = generators()
+        for path, tree in trees():
+            iterated = [id(node.iter) for node in ast.walk(tree) if isinstance(node, (ast.For, ast.comprehension))]
+            iterated += [id(node.args[0]) for node in ast.walk(tree) if isinstance(node, ast.Call) and node.args
+                         and getattr(node.func, "id", None) in ("list", "tuple", "dict", "sorted", "enumerate")]
+            for node in ast.walk(tree):
+                if not isinstance(node, ast.Call):
+                    continue
+                if getattr(node.func, "id", getattr(node.func, "attr", None)) in names:
+                    self.assertIn(id(node), iterated, (path, node.lineno))
+                    for one in node.args:
+                        self.assertIsInstance(one, (ast.Name, ast.Attribute, ast.Constant, ast.Lambda), (path, node.lineno))
+
+    def test_no_yield_under_a_try(self):
+        for path, node in nodes(ast.Try, ast.With):
+            self.assertFalse([one for one in ast.walk(node) if isinstance(one, (ast.Yield, ast.YieldFrom))], path)
+
+
 class TheNames(unittest.TestCase):
     def test_names_are_plain_and_mean_one_thing(self):
         for path, tree in trees():
@@ -224,6 +264,9 @@ class TheClasses(unittest.TestCase):
     def test_decorators_and_double_underscore_methods(self):
         for path, function in nodes(ast.FunctionDef):
             for decorator in function.decorator_list:
+                if is_setter(function):
+                    self.assertEqual((decorator.value.id, len(function.decorator_list)), (function.name, 1), path)
+                    continue
                 self.assertIn(getattr(decorator, "id", None), DECORATORS, (path, function.name))
             if function.name.startswith("__"):
                 self.assertIn(function.name, DUNDERS, path)
@@ -249,7 +292,7 @@ class TheClasses(unittest.TestCase):
 
     def test_a_name_is_a_method_or_an_attribute(self):
         for path, node in nodes(ast.ClassDef):
-            own = [one.name for one in node.body if isinstance(one, ast.FunctionDef)]
+            own = [one.name for one in node.body if isinstance(one, ast.FunctionDef) and not is_setter(one)]
             stored = [one.attr for one in ast.walk(node) if isinstance(one, ast.Attribute)
                       and isinstance(one.ctx, ast.Store)]
             self.assertFalse(set(own) & set(stored), (path, node.name))
@@ -260,7 +303,7 @@ class TheClasses(unittest.TestCase):
         plain, bound, properties, generators, functions = [], [], [], [], []
         for _, node in nodes(ast.ClassDef):
             for one in node.body:
-                if isinstance(one, ast.FunctionDef):
+                if isinstance(one, ast.FunctionDef) and not is_setter(one):
                     names = [getattr(decorator, "id", None) for decorator in one.decorator_list]
                     (properties if "property" in names else bound if names else plain).append(one.name)
         for _, node in nodes(ast.FunctionDef):

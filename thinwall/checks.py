@@ -37,6 +37,15 @@ def check_case(case, size):
         raise UnknownCase(case)
 
 
+def chosen_cases(cases, size):
+    """The cases in ascending order without duplicates; None stands for all cases."""
+    if cases is None:
+        return list(range(size))
+    for case in cases:
+        check_case(case, size)
+    return sorted(set(cases))
+
+
 def check_letters(letters):
     """Raises an error for the first string that is not the letter of a person."""
     for letter in letters:

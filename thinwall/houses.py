@@ -88,7 +88,8 @@ def beside(one, other):
     return House(facts, rows, **eyes)
 
 
-def _check_names(facts):
+def check_names(facts):
+    """Raises an error if the strings cannot be the facts of a house."""
     if len(facts) > MOST_FACTS or len(set(facts)) < len(facts):
         raise BadHouse("facts")
     if not all([is_name(name) for name in facts]):
@@ -97,10 +98,10 @@ def _check_names(facts):
 
 def _check_house(facts, rows, people):
     """Checks all of a house but what the people see."""
-    _check_names(facts)
+    check_names(facts)
     if len(rows) < 1 or len(rows) > Split.MOST:
         raise BadHouse("rows")
-    if not all([_is_row(row, facts) for row in rows]):
+    if not all([is_row(row, facts) for row in rows]):
         raise BadHouse("rows")
     if len(people) < 1 or len(people) > MOST_PEOPLE:
         raise BadHouse("people")
@@ -108,7 +109,8 @@ def _check_house(facts, rows, people):
         raise BadHouse("people")
 
 
-def _is_row(row, facts):
+def is_row(row, facts):
+    """Whether the string is a row of these facts."""
     return len(row) == len(facts) and all([digit in ("0", "1") for digit in row])
 
 
@@ -129,10 +131,10 @@ def _marks_of_seen(facts, rows, names):
 
 def _matching_rows(facts, saying):
     """All rows of facts, ascending, in which the plain saying is true."""
-    _check_names(facts)
+    check_names(facts)
     check_plain([saying])
     check_facts(saying.facts(), facts)
-    rows = _all_rows(len(facts))
+    rows = all_rows(len(facts))
     truths = folded(saying, lambda part, below: plain_truths(part, below, facts, rows))[0]
     found = [row for row, truth in zip(rows, truths) if truth]
     if len(found) > Split.MOST:
@@ -140,7 +142,8 @@ def _matching_rows(facts, saying):
     return found
 
 
-def _all_rows(length):
+def all_rows(length):
+    """All rows of so many facts, in ascending order."""
     rows = [""]
     for _ in range(length):
         rows = [row + digit for row in rows for digit in "01"]

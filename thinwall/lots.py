@@ -135,3 +135,55 @@ class Lot:
     def _telling_at(self, number):
         """The signs of the deeds that tell something in the table of this number."""
         return "".join([sign for sign, behind in zip(self.play.signs, self._steps[number]) if behind != number])
+
+
+def tables_of(lot):
+    """The tables of the lot, in order."""
+    return [table for _, table in lot.walk()]
+
+
+def last_tables(lot):
+    """The tables of the lot in which no deed tells anything, in order."""
+    return [lot.after(name) for name in lot.last_names()]
+
+
+def ways_of(lot):
+    """For each table of the lot a dict that leads from each sign to the number of the table behind the deed."""
+    numbers = {name: number for number, name in enumerate(lot.names())}
+    ways = [{} for _ in numbers]
+    for name, sign, behind in lot.steps():
+        ways[numbers[name]][sign] = numbers[behind]
+    return ways
+
+
+def least_rows(first, following):
+    """The pairs of the least row to a state and this state, in the order of the rows.
+
+    These are all states that are reached from the first one. following(state) is a
+    dict that leads from signs, in ascending order, to the states behind them.
+    """
+    pairs = [("", first)]
+    known = {first: True}
+    at = 0
+    while at < len(pairs):
+        row, state = pairs[at]
+        yield (row, state)
+        for sign, behind in following(state).items():
+            if behind not in known:
+                known[behind] = True
+                pairs.append((row + sign, behind))
+        at += 1
+
+
+def rows_over(ways, signs):
+    """The least rows of these signs alone, each with the number of the table that it leads to, in order."""
+    kept = [{sign: behind for sign, behind in way.items() if sign in signs} for way in ways]
+    return list(least_rows(0, lambda at: kept[at]))
+
+
+def choices_of(signs):
+    """All strings of some of the signs, the shorter ones first, and then in alphabetical order."""
+    found = [""]
+    for sign in signs:
+        found.extend([chosen + sign for chosen in found])
+    return sorted(found, key=lambda chosen: (len(chosen), chosen))

@@ -10,20 +10,20 @@ class Split:
     MOST = 12
 
     def __init__(self, marks):
-        _check_size(len(marks))
+        check_size(len(marks))
         self.size = len(marks)
         self._marks = first_places(marks)
 
     @classmethod
     def whole(cls, size):
         """The split with one cell."""
-        _check_size(size)
+        check_size(size)
         return cls([0 for _ in range(size)])
 
     @classmethod
     def apart(cls, size):
         """The split with one cell for each case."""
-        _check_size(size)
+        check_size(size)
         return cls(list(range(size)))
 
     @staticmethod
@@ -126,14 +126,15 @@ def first_places(items):
 
 def splits_of(size):
     """All splits of the size, in ascending order of their marks."""
-    _check_size(size)
+    check_size(size)
     marks = [0 for _ in range(size)]
     while marks is not None:
         yield Split(marks)
-        marks = _next_marks(marks)
+        marks = next_marks(marks)
 
 
-def _check_size(size):
+def check_size(size):
+    """Raises an error if no split has this size."""
     if size < 1 or size > Split.MOST:
         raise BadSize(size)
 
@@ -158,7 +159,7 @@ def _merged_marks(marks, first, second):
     return [low if mark == high else mark for mark in marks]
 
 
-def _next_marks(marks):
+def next_marks(marks):
     """The marks of the next split in ascending order, or None."""
     for case in reversed(range(len(marks))):
         if marks[case] < case:

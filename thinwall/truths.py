@@ -62,6 +62,12 @@ def sure_facts(table, group, case):
     return sure
 
 
+def true_among(table, saying, cases):
+    """Those of the cases in which the saying is true."""
+    truths = _truths(table, saying)
+    return [case for case in cases if truths[case]]
+
+
 def part_truths(table, saying):
     """For each part of the saying the list of its truths in the cases."""
     facts = table.house.facts()
