@@ -200,6 +200,15 @@ class Errors(Checks):
         self.assert_errors_in_order(find_apart, turned, ({"second_lot": few}, UnlikeMachines()), ({"a": 3}, UnknownCase(3)),
                                     ({"group": "d"}, UnknownPerson("d")), ({"b": 2}, UnknownCase(2)))
         self.assert_error(UnknownPerson("h"), find_apart, **{**turned, "group": "dh", "a": 9})
+        # Each house lacks another person, and the first one decides, also where nothing is ever heard.
+        for deeds in ({}, {"x": "none"}):
+            one = Lot(Play(HOUSE, **deeds))
+            other = Lot(Play(House(["p"], ["0"], a=[0], b=[0], d=[0]), **deeds))
+            for first, second, letter in ((one, other, "d"), (other, one, "c")):
+                self.assert_error(UnknownPerson(letter), ears_alike, first, second, "cd")
+                self.assert_error(UnknownPerson(letter), find_apart, first, 0, second, 0, "cd")
+                self.assert_error(UnknownPerson(letter), ears_alike, first, second, letter)
+                self.assert_error(UnknownPerson(letter), ears_alike, second, first, letter)
         for lots in ((LOT, OTHER), (OTHER, LOT)):
             self.assert_error(UnknownPerson("d"), ears_alike, *lots, "cd")
             self.assert_error(UnknownPerson("e"), ears_alike, *lots, "e")

@@ -151,7 +151,8 @@ class Reaching(Checks):
         found = closed_tables(lot, wish, **given)
         if shortest(lot, wish, **given) is not None:
             self.assertIsNone(found)
-            self.assertIs(closed_holds(lot.play, [], wish, **given), False)
+            for some in ([], list(names.values()), list({names[behind[row].key] for row in good})):
+                self.assertIs(closed_holds(lot.play, [lot.after(name).key for name in some], wish, **given), False)
             return
         reached = {names[behind[row].key] for row in good}
         self.assertEqual(found, [name for name in ordered_names(behind) if name in reached])
@@ -256,6 +257,9 @@ class Reaching(Checks):
         self.assertEqual(fewest_deeds(lot, "[a](p & q & r & s & t & u)", cases=[0]), "abcdef")
         closed = closed_tables(lot, "false", never="[a?]p", cases=[0])
         self.assertEqual(closed, [name for name in lot.names() if "f" not in name])
+        # The good rows ba, bc, and ca lead to the tables ab, bc, and ac.
+        few = Lot(CUBE.only("abc"))
+        self.assertEqual(closed_tables(few, "false", never="[a]u & ~[a]s & ~[a]t", cases=[0]), ["", "b", "c", "ab", "ac", "bc", "abc"])
         keys = [lot.after(name).key for name in closed]
         self.assertIs(closed_holds(CUBE, keys, "false", never="[a?]p", cases=[0]), True)
         self.assertIs(closed_holds(CUBE, keys[:-1], "false", never="[a?]p", cases=[0]), False)

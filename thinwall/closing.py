@@ -1,7 +1,6 @@
 """Closing in on the cases of a street: joint choices, strikes, and trees that refute."""
 
-from thinwall.checks import check_told
-from thinwall.errors import NoChoice, UnknownSite
+from thinwall.errors import NoChoice
 from thinwall.reading import to_saying
 from thinwall.streets import house_at, links_between
 from thinwall.truths import cases_of
@@ -19,11 +18,9 @@ def joint(street):
 def sure(street, name, saying):
     """The first joint choice in which the saying is false at the site, or None."""
     told = to_saying(saying)
-    if name not in street:
-        raise UnknownSite(name)
-    check_told(house_at(street, name), told)
-    left = _open_cases(street)
+    # These two calls raise the errors of the name and of the saying.
     true_cases = cases_of(street.table_at(name), told)
+    left = _open_cases(street)
     false_cases = [case for case in left[name] if case not in true_cases]
     return _first_choice({**left, name: false_cases}, _clashes(_links_now(street)))
 

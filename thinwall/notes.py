@@ -127,7 +127,7 @@ class Find:
     def against(self, saying):
         """The least row that fits with a case in which the saying is false behind it, and this case, or None."""
         told = to_saying(saying)
-        check_told(self._lot.play.house, told)
+        # This raises the errors of the saying.
         truths = [cases_of(table, told) for table in tables_of(self._lot)]
         for row, number, fitting in self._fits():
             wrong = [case for case in fitting if case not in truths[number]]

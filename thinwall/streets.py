@@ -1,7 +1,7 @@
 """Streets: several houses, where what is told in one of them bears on the others."""
 
-from thinwall.checks import check_people, check_row, check_told, is_name
-from thinwall.errors import BadCount, BadName, DuplicateSite, TooMany, UnknownDeed, UnknownLink, UnknownSite
+from thinwall.checks import check_people, check_told, is_name
+from thinwall.errors import BadCount, BadName, DuplicateSite, TooMany, UnknownLink, UnknownSite
 from thinwall.reading import to_saying
 
 MOST_SITES = 5
@@ -34,14 +34,12 @@ class Street:
             raise DuplicateSite(name)
         if len(self._sites) >= MOST_SITES:
             raise TooMany(MOST_SITES)
-        check_row(row, play.signs)
+        # The play raises the error of a wrong row, and in tell(..) that of a wrong sign.
         self._sites[name] = Site(play, row)
 
     def tell(self, name, sign):
         """Adds a deed to the row of the site."""
         site = self._site(name)
-        if sign not in site.play:
-            raise UnknownDeed(sign, 0)
         deed = site.play.deed(sign)
         site.now = deed(site.now)
         site.done = site.done + sign

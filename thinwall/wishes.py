@@ -86,25 +86,25 @@ def fewest_deeds(lot, wish, *, never="false", cases=None):
 
 def once(lot, saying):
     """The cases in which the saying is true in at least one table."""
-    truths = _true_cases(lot, tables_of(lot), saying)
+    truths = _true_cases(tables_of(lot), saying)
     return [case for case in range(lot.play.house.size) if any([case in cases for cases in truths])]
 
 
 def always(lot, saying):
     """The cases in which the saying is true in all tables."""
-    truths = _true_cases(lot, tables_of(lot), saying)
+    truths = _true_cases(tables_of(lot), saying)
     return [case for case in range(lot.play.house.size) if all([case in cases for cases in truths])]
 
 
 def at_last(lot, saying):
     """The cases in which the saying is true in all last tables."""
-    truths = _true_cases(lot, last_tables(lot), saying)
+    truths = _true_cases(last_tables(lot), saying)
     return [case for case in range(lot.play.house.size) if all([case in cases for cases in truths])]
 
 
 def firm_break(lot, saying):
     """Where a deed first makes the saying false in a case in which it was true, or None."""
-    truths = _true_cases(lot, tables_of(lot), saying)
+    truths = _true_cases(tables_of(lot), saying)
     for name, way, cases in zip(lot.names(), ways_of(lot), truths):
         for sign, behind in way.items():
             broken = [case for case in cases if case not in truths[behind]]
@@ -148,8 +148,7 @@ def _closed_at(play, key, listed, aim):
     return all([after.key in listed or not aim.good(after) for after in behind])
 
 
-def _true_cases(lot, tables, saying):
-    """For each of the tables the cases in which the saying is true."""
+def _true_cases(tables, saying):
+    """For each of the tables the cases in which the saying is true; raises the errors of the saying."""
     told = to_saying(saying)
-    check_told(lot.play.house, told)
     return [cases_of(table, told) for table in tables]
