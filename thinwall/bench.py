@@ -51,7 +51,7 @@ class Bench:
 
     @property
     def limit(self):
-        """How many deeds the row may have for a further one to be refused."""
+        """How many deeds the row may have."""
         return self._state[3]
 
     @limit.setter

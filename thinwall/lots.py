@@ -185,5 +185,5 @@ def choices_of(signs):
     """All strings of some of the signs, the shorter ones first, and then in alphabetical order."""
     found = [""]
     for sign in signs:
-        found.extend([chosen + sign for chosen in found])
+        found = found + [chosen + sign for chosen in found]
     return sorted(found, key=lambda chosen: (len(chosen), chosen))

@@ -55,14 +55,14 @@ class Listeners:
                     found = found | ((found >> stride) & place)
         return found
 
-    def behind(self, number, sign, case, mask):
+    def moved(self, number, sign, case, mask):
         """What the deed leads to, in the table of this number, if this is the case."""
         found = mask
         for stays, goes, stride in self._moves[number][sign][case]:
             found = (found & stays) | ((found & goes) << stride)
         return found
 
-    def before(self, number, sign, case, mask):
+    def moving(self, number, sign, case, mask):
         """From what the deed leads into the mask, in the table of this number, if this is the case."""
         found = mask
         for stays, goes, stride in self._moves[number][sign][case]:
@@ -153,7 +153,7 @@ class Find:
     def stands(self):
         """All stands that moves lead to from the first stands."""
         names = self._lot.names()
-        reached = [[0 for _ in range(self._lot.play.house.size)] for _ in names]
+        reached = [[0] * self._lot.play.house.size for _ in names]
         for _, number, masks in self._found:
             reached[number] = [mask | known for mask, known in zip(masks, reached[number])]
         return [(used, name, case) for place, used in enumerate(self._listeners.used)
@@ -177,12 +177,12 @@ class Find:
         """The mask of those in the table of this number from which one deed leads into the masks."""
         found = 0
         for sign, behind in self._listeners.ways[number].items():
-            found = found | self._listeners.before(number, sign, case, able[behind])
+            found = found | self._listeners.moving(number, sign, case, able[behind])
         return self._listeners.passing(found)
 
     def _longer(self, case, row, number, mask):
         """What one more deed leads to; the last sign comes first."""
-        longer = [(row + sign, behind, self._listeners.passed(self._listeners.behind(number, sign, case, mask)))
+        longer = [(row + sign, behind, self._listeners.passed(self._listeners.moved(number, sign, case, mask)))
                   for sign, behind in self._listeners.ways[number].items()]
         return longer[::-1]
 
@@ -218,16 +218,15 @@ def _stride(later):
 
 def _reached_first(listeners, play):
     """What Find keeps as _found: all that rows lead to, in the order of the rows."""
-    cases = list(range(play.house.size))
-    start = [listeners.passed(1) for _ in cases]
-    seen = [[0 for _ in cases] for _ in listeners.ways]
+    start = [listeners.passed(1)] * play.house.size
+    seen = [[0] * play.house.size for _ in listeners.ways]
     seen[0] = start
     found = [("", 0, start)]
     at = 0
     while at < len(found):
         row, number, masks = found[at]
         for sign, behind in listeners.ways[number].items():
-            moved = [listeners.passed(listeners.behind(number, sign, case, mask)) for case, mask in enumerate(masks)]
+            moved = [listeners.passed(listeners.moved(number, sign, case, mask)) for case, mask in enumerate(masks)]
             fresh = [mask ^ (mask & known) for mask, known in zip(moved, seen[behind])]
             if any(fresh):
                 seen[behind] = [mask | known for mask, known in zip(fresh, seen[behind])]
@@ -241,7 +240,7 @@ def _masks_of(lot, listeners, paper):
     places = {used: place for place, used in enumerate(listeners.used)}
     numbers = {name: number for number, name in enumerate(lot.names())}
     size = lot.play.house.size
-    masks = [[0 for _ in range(size)] for _ in numbers]
+    masks = [[0] * size for _ in numbers]
     for used, name, case in paper:
         if used not in places or name not in numbers or case < 0 or case >= size:
             return None
@@ -256,7 +255,7 @@ def _table_holds(listeners, masks, number, cases):
         if listeners.passed(mask) != mask or (mask & last != 0 and case not in cases):
             return False
         for sign, behind in listeners.ways[number].items():
-            moved = listeners.behind(number, sign, case, mask)
+            moved = listeners.moved(number, sign, case, mask)
             if moved | masks[behind][case] != masks[behind][case]:
                 return False
     return True

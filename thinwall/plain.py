@@ -28,7 +28,7 @@ class Way:
             found.append(self._number_behind(found[-1], sign))
         return found
 
-    def words(self, row, letter):
+    def hearing(self, row, letter):
         """For each deed of the row what the person hears of it in the cases."""
         return [self._words_at(number, sign, letter) for number, sign in zip(self.numbers(row), row)]
 
@@ -79,7 +79,7 @@ def slow_fits(play, length, **notes):
     found = []
     for many in range(length + 1):
         for row in rows_of(play.signs, many):
-            heard = {letter: way.words(row, letter) for letter in notes}
+            heard = {letter: way.hearing(row, letter) for letter in notes}
             found.extend([(row, case) for case in range(play.house.size) if _fits_all(notes, row, heard, case)])
     return found
 
@@ -92,10 +92,10 @@ def all_houses(facts, size, people):
     if not is_group(people) or len(people) > MOST_PEOPLE:
         raise BadHouse("people")
     digits = all_rows(len(names))
-    chosen = [0 for _ in range(size)]
+    chosen = [0] * size
     while chosen is not None:
         rows = [digits[place] for place in chosen]
-        views = [[0 for _ in range(size)] for _ in people]
+        views = [[0] * size for _ in people]
         while views is not None:
             eyes = dict(zip(people, views))
             yield House(names, rows, **eyes)
@@ -144,5 +144,5 @@ def _next_views(views):
     for at in reversed(range(len(views))):
         following = next_marks(views[at])
         if following is not None:
-            return views[:at] + [following] + [[0 for _ in marks] for marks in views[at + 1:]]
+            return views[:at] + [following] + [[0] * len(marks) for marks in views[at + 1:]]
     return None

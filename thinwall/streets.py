@@ -34,12 +34,13 @@ class Street:
             raise DuplicateSite(name)
         if len(self._sites) >= MOST_SITES:
             raise TooMany(MOST_SITES)
-        # The play raises the error of a wrong row, and in tell(..) that of a wrong sign.
+        # The play raises the error of a wrong row.
         self._sites[name] = Site(play, row)
 
     def tell(self, name, sign):
         """Adds a deed to the row of the site."""
         site = self._site(name)
+        # This raises the error of a wrong sign.
         deed = site.play.deed(sign)
         site.now = deed(site.now)
         site.done = site.done + sign
